@@ -1,0 +1,1 @@
+"""One player calls a distance, the other picks the direction."""

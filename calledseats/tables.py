@@ -1,0 +1,79 @@
+"""Tables with rings of seats, and the steps of the walker on them."""
+
+from math import gcd, lcm
+
+from calledseats.checks import is_integer, require_call, require_direction, require_seat
+from calledseats.errors import InvalidTable
+
+MAX_RINGS = 4
+
+
+class Table:
+    """A table with 1 to 4 rings of seats, which never changes."""
+
+    def __init__(self, rings):
+        if not _are_sizes(rings):
+            raise InvalidTable(rings)
+        self._sizes = tuple(rings)
+
+    def sizes(self):
+        """Return the ring sizes as a tuple."""
+        return self._sizes
+
+    def count(self):
+        """Return the number of seats."""
+        seats = 1
+        for size in self._sizes:
+            seats = seats * size
+        return seats
+
+    def moves(self, seat, call):
+        """Return the seats after a step forward and after a step backward."""
+        require_seat(self._sizes, seat)
+        require_call(self._sizes, call)
+        forward = tuple([(place + part) % size for place, part, size in zip(seat, call, self._sizes)])
+        backward = tuple([(place - part) % size for place, part, size in zip(seat, call, self._sizes)])
+        return (forward, backward)
+
+    def step(self, seat, call, direction):
+        """Return the seat after one step."""
+        forward, backward = self.moves(seat, call)
+        require_direction(direction)
+        if direction == "forward":
+            return forward
+        return backward
+
+    def order(self, seat):
+        """Return the least number of copies of the seat whose sum is the zero seat."""
+        require_seat(self._sizes, seat)
+        copies = 1
+        for place, size in zip(seat, self._sizes):
+            copies = lcm(copies, size // gcd(place, size))
+        return copies
+
+    def halves(self, seat):
+        """Return all seats that give this seat when they are doubled, ascending."""
+        require_seat(self._sizes, seat)
+        found = [()]
+        for place, size in zip(seat, self._sizes):
+            halved = _half_places(place, size)
+            found = [(*half, part) for half in found for part in halved]
+        return found
+
+
+def sizes_of(table):
+    """Return the ring sizes of a table, or raise InvalidTable for another value."""
+    if not isinstance(table, Table):
+        raise InvalidTable(table)
+    return table.sizes()
+
+
+def _are_sizes(rings):
+    if not isinstance(rings, (list, tuple)) or not 1 <= len(rings) <= MAX_RINGS:
+        return False
+    return all([is_integer(size) and size >= 1 for size in rings])
+
+
+def _half_places(place, size):
+    # Twice a place is below twice the size, so it is the place itself or one round more.
+    return [double // 2 for double in (place, place + size) if double % 2 == 0]
