@@ -1,6 +1,7 @@
 """Checks of arguments, over the ring sizes of a table that is valid."""
 
-from calledseats.errors import InvalidCall, InvalidDirection, InvalidSeat, InvalidTargets, InvalidWitness
+from calledseats.errors import InvalidCall, InvalidDirection, InvalidMoves, InvalidSeat, InvalidTargets
+from calledseats.errors import InvalidWitness
 
 
 def is_integer(number):
@@ -25,6 +26,14 @@ def is_call(sizes, call):
 def is_direction(direction):
     """Tell whether the value is one of the two directions."""
     return isinstance(direction, str) and direction in ("forward", "backward")
+
+
+def is_move(sizes, move):
+    """Tell whether the value is a move for the table with these ring sizes."""
+    if not isinstance(move, tuple) or len(move) != 2:
+        return False
+    call, direction = move
+    return is_call(sizes, call) and is_direction(direction)
 
 
 def is_modulus(modulus):
@@ -84,3 +93,12 @@ def require_targets(sizes, targets):
         if not is_seat(sizes, seat) or seat in seen:
             raise InvalidTargets(index)
         seen.add(seat)
+
+
+def require_moves(sizes, moves):
+    """Raise InvalidMoves for a value that is not a list or tuple of moves."""
+    if not isinstance(moves, (list, tuple)):
+        raise InvalidMoves(-1)
+    for index, move in enumerate(moves):
+        if not is_move(sizes, move):
+            raise InvalidMoves(index)

@@ -9,11 +9,10 @@ A basis of such a lattice is a list of rows in which the row with index k has
 zeros ahead of index k and a positive integer there, its pivot.
 """
 
-from math import gcd
-
 from calledseats.checks import require_seat, require_targets, require_witness
 from calledseats.errors import InvalidWitness
 from calledseats.tables import sizes_of
+from calledseats.witnesses import common_divisor, weighted_sum
 
 
 def coset_count(table, targets):
@@ -33,7 +32,7 @@ def reach(table, targets, seat):
     modulus = _pivot_product(basis)
     for column in range(len(sizes)):
         weights = _inverse_column(basis, modulus, column)
-        if _weighted_sum(weights, shift) % modulus != 0:
+        if weighted_sum(weights, shift) % modulus != 0:
             return ("unreachable", _short_witness(modulus, weights, targets[0]))
     return ("reachable",)
 
@@ -46,9 +45,9 @@ def check_witness(table, targets, seat, witness):
     require_witness(sizes, witness)
     modulus, weights, residue = witness
     for index, target in enumerate(targets):
-        if _weighted_sum(weights, target) % modulus != residue:
+        if weighted_sum(weights, target) % modulus != residue:
             raise InvalidWitness(index)
-    if _weighted_sum(weights, seat) % modulus == residue:
+    if weighted_sum(weights, seat) % modulus == residue:
         raise InvalidWitness(len(targets))
 
 
@@ -58,11 +57,7 @@ def value(table, witness, seat):
     require_witness(sizes, witness)
     require_seat(sizes, seat)
     modulus, weights, _ = witness
-    return _weighted_sum(weights, seat) % modulus
-
-
-def _weighted_sum(weights, vector):
-    return sum([weight * part for weight, part in zip(weights, vector)])
+    return weighted_sum(weights, seat) % modulus
 
 
 def _difference(seat, other):
@@ -131,15 +126,13 @@ def _inverse_column(basis, modulus, column):
     weights = [0] * len(basis)
     weights[column] = modulus // basis[column][column]
     for at in reversed(range(column)):
-        weights[at] = -_weighted_sum(basis[at], weights) // basis[at][at]
+        weights[at] = -weighted_sum(basis[at], weights) // basis[at][at]
     return weights
 
 
 def _short_witness(modulus, weights, target):
     """Return a witness with the value of the target as its residue."""
-    common = modulus
-    for weight in weights:
-        common = gcd(common, weight)
+    common = common_divisor(modulus, weights)
     small = modulus // common
     reduced = tuple([weight // common % small for weight in weights])
-    return (small, reduced, _weighted_sum(reduced, target) % small)
+    return (small, reduced, weighted_sum(reduced, target) % small)

@@ -3,9 +3,10 @@
 from math import gcd, lcm
 
 from calledseats.checks import is_integer, require_call, require_direction, require_seat
-from calledseats.errors import InvalidTable
+from calledseats.errors import InvalidTable, TooLarge
 
 MAX_RINGS = 4
+SMALL_COUNT = 300
 
 
 class Table:
@@ -54,11 +55,7 @@ class Table:
     def halves(self, seat):
         """Return all seats that give this seat when they are doubled, ascending."""
         require_seat(self._sizes, seat)
-        found = [()]
-        for place, size in zip(seat, self._sizes):
-            halved = _half_places(place, size)
-            found = [(*half, part) for half in found for part in halved]
-        return found
+        return all_choices([_half_places(place, size) for place, size in zip(seat, self._sizes)])
 
 
 def sizes_of(table):
@@ -66,6 +63,25 @@ def sizes_of(table):
     if not isinstance(table, Table):
         raise InvalidTable(table)
     return table.sizes()
+
+
+def require_small(table):
+    """Raise TooLarge for a table that is not small."""
+    if table.count() > SMALL_COUNT:
+        raise TooLarge(SMALL_COUNT)
+
+
+def all_seats(sizes):
+    """Return all seats of the table with these ring sizes, ascending."""
+    return all_choices([list(range(size)) for size in sizes])
+
+
+def all_choices(options):
+    """Return all tuples with one entry of each list, ascending if the lists are."""
+    found = [()]
+    for parts in options:
+        found = [(*chosen, part) for chosen in found for part in parts]
+    return found
 
 
 def _are_sizes(rings):

@@ -116,6 +116,41 @@ def not_witnesses():
     return wrong
 
 
+def not_moves(width):
+    """Values that are not a move for a table with so many rings."""
+    call = (1,) * width
+    good = (call, "forward")
+    wrong = strange_values() + [0, 1, HUGE, "", "forward", [], [call], list(good), (), (call,), ("forward",), (good,)]
+    wrong += [good + ("forward",), good + (None,), ("forward", call), (call, call), {call: "forward"}, call]
+    wrong += [(other, "forward") for other in not_calls(width)]
+    wrong += [(call, direction) for direction in not_directions()]
+    return wrong
+
+
+def not_move_lists():
+    """Values that raise InvalidMoves(-1) for every table."""
+    return strange_values() + [0, 1, -1, HUGE, "", "0", "forward"]
+
+
+def not_limits():
+    """Values that are not an integer >= 0."""
+    return not_integers() + [-1, -300, -HUGE]
+
+
+def not_strategies():
+    """Values that are a strategy of no player for the table [6, 9] with the target (0, 0)."""
+    wrong = not_witnesses()
+    wrong += ["Layers", "layer", "layers ", " layers", "LAYERS", "forward", "backward", b"layers", ["layers"]]
+    wrong += [("layers",), {"layers": 1}, {"layers"}, ["layers", "forward"], [[]], [()], [[(0, 0)]], [None], [True]]
+    wrong += [("forward",), ("forward", "backward"), {"forward": 1}, {"forward"}, iter(["forward"]), b"forward"]
+    wrong += [((1, 2),), (1, 2), {(1, 2): 1}, {(1, 2)}, iter([(1, 2)]), [1, 2], [["forward"]]]
+    for entry in not_directions():
+        if not isinstance(entry, tuple) or len(entry) != 2:
+            wrong += [["forward", entry], [entry, "backward"], [(1, 2), entry], [entry, (1, 2)]]
+    wrong += [["forward", (1, 2)], [(1, 2), "forward"], [(1, 2), (1,)], [(1, 2), (1, 2, 3)], [(1, True)], [[1, 2]]]
+    return wrong
+
+
 def assert_error(case, name, stored, function, *args, **keywords):
     """Assert that the call raises exactly this error of the package with exactly this value."""
     expected = getattr(errors, name)
@@ -124,8 +159,8 @@ def assert_error(case, name, stored, function, *args, **keywords):
     except Exception as error:
         case.assertIs(error.__class__, expected)
         held = getattr(error, ATTRIBUTES[name])
-        if ATTRIBUTES[name] in ("index", "limit"):
-            case.assertIs(held.__class__, int)
+        if ATTRIBUTES[name] in ("index", "limit", "name"):
+            case.assertIs(held.__class__, stored.__class__)
             case.assertEqual(held, stored)
         else:
             case.assertIs(held, stored)
@@ -236,3 +271,62 @@ def assert_witness(case, sizes, targets, seat, witness):
     for target in targets:
         case.assertTrue(plain_value(witness, target) == residue)
     case.assertTrue(plain_value(witness, seat) != residue)
+
+
+def brute_numbers(sizes, targets):
+    """Return the numbers of all reachable seats by the rule of [3.1]: every call is tried from every seat."""
+    seats = all_seats(sizes)
+    found = {target: 0 for target in targets}
+    level = 0
+    while True:
+        level += 1
+        new = [seat for seat in seats if seat not in found and has_tried_call(sizes, seats, seat, found)]
+        if not new:
+            return found
+        found.update({seat: level for seat in new})
+
+
+def has_tried_call(sizes, seats, seat, found):
+    """Tell whether both moves of some call lead into the found seats, trying every call."""
+    for call in seats:
+        if plus(sizes, seat, call) in found and minus(sizes, seat, call) in found:
+            return True
+    return False
+
+
+def assert_reduced(case, sizes, call):
+    """Assert that the value is a reduced call."""
+    case.assertIs(call.__class__, tuple)
+    case.assertEqual(len(call), len(sizes))
+    for part, size in zip(call, sizes):
+        case.assertIs(part.__class__, int)
+        case.assertTrue(0 <= part < size)
+
+
+def target_choices(sizes, chance):
+    """Some target lists: single seats, pairs with the zero seat, and random ones, if the table has so many seats."""
+    seats = all_seats(sizes)
+    chosen = [[seat] for seat in seats[:4] + seats[-1:]]
+    chosen += [[seats[0], seat] for seat in chance.sample(seats[1:], min(8, len(seats) - 1))]
+    for many in (2, 3, 4):
+        if many <= len(seats):
+            chosen += [chance.sample(seats, many) for _ in range(3)]
+    return chosen
+
+
+def random_call(chance, sizes):
+    """A call of any sign, near to or far beyond the sizes."""
+    far = chance.choice((1, 1, 3, 10 ** 6, 10 ** 30))
+    return tuple(chance.randint(-far * size, far * size) for size in sizes)
+
+
+def random_moves(chance, sizes, many):
+    return [(random_call(chance, sizes), chance.choice(("forward", "backward"))) for _ in range(many)]
+
+
+def walked(sizes, seat, moves):
+    """Return all seats of a game."""
+    seats = [seat]
+    for call, direction in moves:
+        seats.append((plus if direction == "forward" else minus)(sizes, seats[-1], call))
+    return seats

@@ -9,7 +9,7 @@ from math import gcd
 from calledseats.reach import check_witness, coset_count, reach, value
 from calledseats.tables import Table
 from tests.support import all_seats, all_witnesses, assert_error, assert_witness, brute_free_shifts
-from tests.support import brute_reachable, minus, odd_part, plain_value, plus
+from tests.support import brute_reachable, minus, odd_part, plain_value, plus, target_choices
 
 ONE_RING = [[size] for size in range(1, 19)] + [[21], [24], [27], [30], [45]]
 MORE_RINGS = [
@@ -17,17 +17,6 @@ MORE_RINGS = [
     [1, 1, 1], [3, 1, 3], [2, 3, 2], [3, 3, 3], [2, 2, 3], [1, 5, 5], [6, 2, 3], [1, 1, 1, 1], [1, 3, 1, 2],
     [2, 2, 2, 2], [3, 2, 3, 2], [3, 3, 1, 3], [1, 2, 3, 5],
 ]
-
-
-def target_choices(sizes, chance):
-    """Some target lists: all single seats and pairs with the zero seat if few, and random ones."""
-    seats = all_seats(sizes)
-    chosen = [[seat] for seat in seats[:4] + seats[-1:]]
-    chosen += [[seats[0], seat] for seat in chance.sample(seats[1:], min(8, len(seats) - 1))]
-    for many in (2, 3, 4):
-        if many <= len(seats):
-            chosen += [chance.sample(seats, many) for _ in range(3)]
-    return chosen
 
 
 class BruteForceTest(unittest.TestCase):
