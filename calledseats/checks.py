@@ -1,7 +1,7 @@
 """Checks of arguments, over the ring sizes of a table that is valid."""
 
-from calledseats.errors import InvalidCall, InvalidDirection, InvalidMoves, InvalidSeat, InvalidTargets
-from calledseats.errors import InvalidWitness
+from calledseats.errors import InvalidCall, InvalidDirection, InvalidMoves, InvalidNumber, InvalidSeat
+from calledseats.errors import InvalidTargets, InvalidWitness
 
 
 def is_integer(number):
@@ -9,23 +9,42 @@ def is_integer(number):
     return isinstance(number, int) and not isinstance(number, bool)
 
 
+def is_place(size, place):
+    """Tell whether the value is a place on a ring of this size."""
+    return isinstance(place, int) and not isinstance(place, bool) and 0 <= place < size
+
+
 def is_seat(sizes, seat):
     """Tell whether the value is a seat of the table with these ring sizes."""
     if not isinstance(seat, tuple) or len(seat) != len(sizes):
         return False
-    return all([is_integer(place) and 0 <= place < size for place, size in zip(seat, sizes)])
+    # Written out, not by is_place: seats are checked more often than anything else.
+    for place, size in zip(seat, sizes):
+        if not isinstance(place, int) or isinstance(place, bool) or not 0 <= place < size:
+            return False
+    return True
 
 
 def is_call(sizes, call):
     """Tell whether the value is a call for the table with these ring sizes."""
     if not isinstance(call, tuple) or len(call) != len(sizes):
         return False
-    return all([is_integer(part) for part in call])
+    for part in call:
+        if not isinstance(part, int) or isinstance(part, bool):
+            return False
+    return True
 
 
 def is_direction(direction):
     """Tell whether the value is one of the two directions."""
     return isinstance(direction, str) and direction in ("forward", "backward")
+
+
+def is_list_of_directions(directions):
+    """Tell whether the value is a list of directions, at least one."""
+    if not isinstance(directions, list) or len(directions) == 0:
+        return False
+    return all([is_direction(entry) for entry in directions])
 
 
 def is_move(sizes, move):
@@ -56,7 +75,7 @@ def is_witness(sizes, witness):
     modulus, weights, residue = witness
     if not is_modulus(modulus) or not are_weights(sizes, modulus, weights):
         return False
-    return is_integer(residue) and 0 <= residue < modulus
+    return is_place(modulus, residue)
 
 
 def require_seat(sizes, seat):
@@ -83,16 +102,23 @@ def require_witness(sizes, witness):
         raise InvalidWitness(-1)
 
 
-def require_targets(sizes, targets):
-    """Raise InvalidTargets unless the value holds different seats, at least one."""
-    if not isinstance(targets, (list, tuple)) or len(targets) == 0:
+def require_seats(sizes, seats):
+    """Raise InvalidTargets unless the value holds different seats, or none."""
+    if not isinstance(seats, (list, tuple)):
         raise InvalidTargets(-1)
     seen = set()
-    for index, seat in enumerate(targets):
+    for index, seat in enumerate(seats):
         # The kind comes first: only a seat is sure to be hashable.
         if not is_seat(sizes, seat) or seat in seen:
             raise InvalidTargets(index)
         seen.add(seat)
+
+
+def require_targets(sizes, targets):
+    """Raise InvalidTargets unless the value holds different seats, at least one."""
+    require_seats(sizes, targets)
+    if len(targets) == 0:
+        raise InvalidTargets(-1)
 
 
 def require_moves(sizes, moves):
@@ -102,3 +128,26 @@ def require_moves(sizes, moves):
     for index, move in enumerate(moves):
         if not is_move(sizes, move):
             raise InvalidMoves(index)
+
+
+def require_number(number, least, name):
+    """Raise InvalidNumber with the name unless the value is an integer that is large enough."""
+    if not is_integer(number) or number < least:
+        raise InvalidNumber(name)
+
+
+def require_place(size, place, name):
+    """Raise InvalidNumber with the name for a value that is not a place on a ring of this size."""
+    if not is_place(size, place):
+        raise InvalidNumber(name)
+
+
+def require_places(size, targets):
+    """Raise InvalidTargets unless the value holds different places of one ring, at least one."""
+    if not isinstance(targets, (list, tuple)) or len(targets) == 0:
+        raise InvalidTargets(-1)
+    seen = set()
+    for index, place in enumerate(targets):
+        if not is_place(size, place) or place in seen:
+            raise InvalidTargets(index)
+        seen.add(place)

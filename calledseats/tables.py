@@ -32,17 +32,14 @@ class Table:
         """Return the seats after a step forward and after a step backward."""
         require_seat(self._sizes, seat)
         require_call(self._sizes, call)
-        forward = tuple([(place + part) % size for place, part, size in zip(seat, call, self._sizes)])
-        backward = tuple([(place - part) % size for place, part, size in zip(seat, call, self._sizes)])
-        return (forward, backward)
+        return both_moves(self._sizes, seat, call)
 
     def step(self, seat, call, direction):
         """Return the seat after one step."""
-        forward, backward = self.moves(seat, call)
+        require_seat(self._sizes, seat)
+        require_call(self._sizes, call)
         require_direction(direction)
-        if direction == "forward":
-            return forward
-        return backward
+        return stepped(self._sizes, seat, call, direction)
 
     def order(self, seat):
         """Return the least number of copies of the seat whose sum is the zero seat."""
@@ -63,6 +60,24 @@ def sizes_of(table):
     if not isinstance(table, Table):
         raise InvalidTable(table)
     return table.sizes()
+
+
+def both_moves(sizes, seat, call):
+    """Return the seats after a step forward and after a step backward, without any checks."""
+    forward = []
+    backward = []
+    for place, part, size in zip(seat, call, sizes):
+        forward.append((place + part) % size)
+        backward.append((place - part) % size)
+    return (tuple(forward), tuple(backward))
+
+
+def stepped(sizes, seat, call, direction):
+    """Return the seat after one step, without any checks."""
+    forward, backward = both_moves(sizes, seat, call)
+    if direction == "forward":
+        return forward
+    return backward
 
 
 def require_small(table):

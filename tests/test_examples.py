@@ -4,15 +4,22 @@ import inspect
 import unittest
 
 from calledseats import layers as layers_module
+from calledseats import marks as marks_module
 from calledseats import players as players_module
 from calledseats import reach as reach_module
 from calledseats import records as records_module
+from calledseats import sums as sums_module
 from calledseats import tables as tables_module
+from calledseats import tours as tours_module
 from calledseats.layers import best_call, check_plan, layers, make_plan, min_calls, plan_depths
+from calledseats.marks import avoided_sets, can_avoid, check_min_targets, min_more_targets, min_targets
+from calledseats.marks import minimal_targets
 from calledseats.players import Caller, Responder, avoiding_direction, play
 from calledseats.reach import check_witness, coset_count, reach, value
 from calledseats.records import Record, consistent_witnesses
+from calledseats.sums import call_from_sum, check_sum, min_calls_on_ring, min_calls_two, sum_counts, two_target_sum
 from calledseats.tables import Table
+from calledseats.tours import check_end, kept_empty, max_more, max_visited, run_tour, tour_call
 from tests.support import ATTRIBUTES, assert_error
 
 
@@ -143,6 +150,88 @@ class ExamplesTest(unittest.TestCase):
         self.assertEqual(consistent_witnesses(Table([3]), (0,), [((1,), 'backward')]), [(3, (1,), 1)])
         self.assertEqual(consistent_witnesses(Table([3]), (0,), []), [(3, (1,), 1), (3, (1,), 2)])
 
+    def test_6_1(self):
+        self.assertEqual(min_calls_on_ring(7, [0, 1], 3), 3)
+        self.assertEqual(min_calls_on_ring(6, [0], 3), 1)
+        self.assertIsNone(min_calls_on_ring(6, [0], 1))
+        assert_error(self, "InvalidTargets", 1, min_calls_on_ring, 6, [0, 0], 1)
+
+    def test_6_2(self):
+        self.assertEqual(min_calls_two(7, 0, 1, 3), 3)
+        assert_error(self, "InvalidNumber", 'second', min_calls_two, 7, 1, 1, 3)
+
+    def test_6_3(self):
+        self.assertEqual(sum_counts(7, [0, 1], 3, 3), [5, 3])
+        self.assertIsNone(sum_counts(7, [0, 1], 3, 2))
+        assert_error(self, "TooLarge", 40, sum_counts, 7, [0, 1], 3, 41)
+
+    def test_6_4(self):
+        self.assertEqual(two_target_sum(7, 0, 1, 3), (3, [5, 3]))
+
+    def test_6_5(self):
+        self.assertIsNone(check_sum(7, [0, 1], 3, 3, [5, 3]))
+        assert_error(self, "InvalidWitness", 2, check_sum, 7, [0, 1], 3, 3, [5, 2])
+        assert_error(self, "InvalidWitness", 3, check_sum, 7, [0, 1], 3, 3, [4, 4])
+
+    def test_6_6(self):
+        call, forward, backward = call_from_sum(7, [0, 1], 3, [5, 3])
+        self.assertEqual([check_sum(7, [0, 1], (3 + call) % 7, 2, forward),
+                          check_sum(7, [0, 1], (3 - call) % 7, 2, backward)], [None, None])
+
+    def test_7_1(self):
+        self.assertEqual(max_visited(Table([12])), 8)
+        self.assertEqual(max_visited(Table([4, 2])), 8)
+
+    def test_7_2(self):
+        self.assertEqual(kept_empty(Table([6]), [(1,)], (0,))[0], 2)
+        self.assertEqual(kept_empty(Table([8]), [], (0,)), (0, None))
+
+    def test_7_3(self):
+        self.assertEqual(tour_call(Table([3]), [(1,), (2,)], (0,)), ('complete',))
+        self.assertEqual(tour_call(Table([2]), [], (0,)), ('call', (1,)))
+        self.assertEqual(tour_call(Table([3]), [(1,)], (0,))[0], 'end')
+        assert_error(self, "InvalidTargets", 1, tour_call, Table([3]), [(1,), (1,)], (0,))
+
+    def test_7_4(self):
+        self.assertEqual(run_tour(Table([2]), (1,), ['backward'], 10), ([((1,), 'backward')], [(1,), (0,)], 'complete'))
+        moves, seats, outcome = run_tour(Table([3]), (0,), (3, (1,), 2), 10)
+        self.assertEqual((seats, outcome), ([(0,), (1,)], 'end'))
+        strategy = (3, (1,), 2)
+        assert_error(self, "InvalidStrategy", strategy, run_tour, Table([3]), (2,), strategy, 10)
+
+    def test_7_5(self):
+        self.assertIsNone(check_end(Table([3]), [(1,)], (0,), (3, (1,), 2)))
+        assert_error(self, "InvalidWitness", 0, check_end, Table([3]), [], (0,), (3, (1,), 2))
+
+    def test_7_6(self):
+        self.assertEqual(max_more(Table([5]), [], (0,)), 3)
+        self.assertEqual(max_more(Table([5]), [(1,), (2,)], (0,)), 1)
+        assert_error(self, "TooLarge", 9, max_more, Table([10]), [], (0,))
+
+    def test_8_1(self):
+        self.assertEqual(min_targets(Table([3, 15, 5])), 3)
+        self.assertEqual(min_targets(Table([8, 4])), 1)
+
+    def test_8_2(self):
+        self.assertEqual(len(minimal_targets(Table([3, 15, 5]))), 3)
+
+    def test_8_3(self):
+        self.assertEqual(min_more_targets(Table([3, 3]), [(0, 0), (1, 0)])[0], 1)
+        self.assertEqual(min_more_targets(Table([4]), [(1,)]), (0, None))
+
+    def test_8_4(self):
+        self.assertIsNone(check_min_targets(Table([3, 3]), [(0, 0)], 2, (3, [(1, 0), (0, 1)])))
+        assert_error(self, "InvalidWitness", 2, check_min_targets, Table([3, 3]), [(0, 0)], 2, (3, [(1, 0), (2, 0)]))
+        assert_error(self, "InvalidWitness", 0, check_min_targets, Table([3, 3]), [(0, 0), (1, 0)], 1, (3, [(1, 0)]))
+
+    def test_8_5(self):
+        self.assertIs(can_avoid(Table([6]), (1,), [(0,), (3,)]), True)
+        self.assertIs(can_avoid(Table([6]), (0,), [(3,)]), False)
+
+    def test_8_6(self):
+        self.assertEqual(avoided_sets(Table([6]), (1,)), [[(0,), (3,)], [(2,), (5,)]])
+        self.assertEqual(avoided_sets(Table([4]), (1,)), [])
+
 
 class InterfaceTest(unittest.TestCase):
 
@@ -204,6 +293,26 @@ class InterfaceTest(unittest.TestCase):
         self.assert_functions(records_module, {"consistent_witnesses": ["table", "seat", "moves"]})
         self.assert_class(records_module, Record, ["table", "targets", "seat", "moves"],
                           {"seats": [], "calls_to_target": [], "losses": [], "first_mistake": []})
+
+    def test_sums(self):
+        two = ["size", "first", "second", "place"]
+        self.assert_functions(sums_module, {
+            "min_calls_on_ring": ["size", "targets", "place"], "min_calls_two": two, "two_target_sum": two,
+            "sum_counts": ["size", "targets", "place", "calls"],
+            "check_sum": ["size", "targets", "place", "calls", "counts"],
+            "call_from_sum": ["size", "targets", "place", "counts"]})
+
+    def test_tours(self):
+        visited = ["table", "visited", "seat"]
+        self.assert_functions(tours_module, {
+            "max_visited": ["table"], "kept_empty": visited, "tour_call": visited, "max_more": visited,
+            "run_tour": ["table", "seat", "responder", "limit"], "check_end": visited + ["witness"]})
+
+    def test_marks(self):
+        self.assert_functions(marks_module, {
+            "min_targets": ["table"], "minimal_targets": ["table"], "min_more_targets": ["table", "targets"],
+            "check_min_targets": ["table", "targets", "count", "witness"],
+            "can_avoid": ["table", "seat", "seats"], "avoided_sets": ["table", "seat"]})
 
     def test_errors(self):
         from calledseats import errors
