@@ -86,8 +86,8 @@ def avoided_sets(table, seat):
     found = []
     for weights in onto_weights(sizes, prime, prime):
         classes = [[] for _ in range(prime)]
-        for at, total in enumerate(sums_of_all(sizes, weights)):
-            classes[total % prime].append(at)
+        for index, total in enumerate(sums_of_all(sizes, weights)):
+            classes[total % prime].append(index)
         del classes[weighted_sum(weights, seat) % prime]
         found.extend(classes)
     seats = all_seats(sizes)

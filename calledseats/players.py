@@ -1,20 +1,22 @@
 """Players for both sides, and games between them."""
 
-from calledseats.checks import is_call, is_direction, is_integer, is_witness, require_seat, require_targets
-from calledseats.errors import InvalidNumber, InvalidSeat, InvalidStrategy, Mismatch
-from calledseats.layers import explore
-from calledseats.reach import value
-from calledseats.tables import require_small, sizes_of
+from calledseats.checks import is_call, is_list_of_directions, is_witness, require_call, require_number
+from calledseats.checks import require_seat, require_targets, require_witness
+from calledseats.errors import InvalidSeat, InvalidStrategy, Mismatch
+from calledseats.spread import Grid, numbered_seats, spread_from
+from calledseats.tables import both_moves, require_small, sizes_of, stepped
+from calledseats.witnesses import direction_off, has_residue
 
 
 def avoiding_direction(table, witness, seat, call):
     """Return a direction that does not lead to the residue of the witness."""
-    if value(table, witness, seat) == witness[2]:
+    sizes = sizes_of(table)
+    require_witness(sizes, witness)
+    require_seat(sizes, seat)
+    if has_residue(witness, seat):
         raise InvalidSeat(seat)
-    forward, _ = table.moves(seat, call)
-    if value(table, witness, forward) == witness[2]:
-        return "backward"
-    return "forward"
+    require_call(sizes, call)
+    return direction_off(witness, seat, call)
 
 
 class Responder:
@@ -28,41 +30,45 @@ class Responder:
         self._numbers = {}
         if _is_layers(strategy):
             require_small(table)
-            self._numbers, _ = explore(sizes, targets)
-        elif _is_list_of_directions(strategy):
+            self._numbers = numbered_seats(sizes, targets)
+        elif is_list_of_directions(strategy):
             self._directions = list(strategy)
-        elif _is_common_witness(table, targets, strategy):
+        elif _is_common_witness(sizes, targets, strategy):
             self._witness = strategy
         else:
             raise InvalidStrategy(strategy)
-        self._table = table
+        self._sizes = sizes
         self._targets = sorted(targets)
         self._turn = 0
 
     def answer(self, seat, call):
         """Return the direction for the call, and go on in a list of directions."""
+        require_seat(self._sizes, seat)
+        if self.has_lost_at(seat):
+            raise InvalidSeat(seat)
+        require_call(self._sizes, call)
         direction = self.direction_at(self._turn, seat, call)
         self._turn += 1
         return direction
 
     def direction_at(self, turn, seat, call):
-        """Return the direction for the call, after so many calls of answer."""
+        """Return the direction for the call, after so many calls of answer, without any checks."""
         if self._witness is not None:
-            return avoiding_direction(self._table, self._witness, seat, call)
-        forward, backward = self._table.moves(seat, call)
+            return direction_off(self._witness, seat, call)
         if self._directions:
             return self._directions[turn % len(self._directions)]
+        forward, backward = both_moves(self._sizes, seat, call)
         if _is_larger(self._numbers.get(backward), self._numbers.get(forward)):
             return "backward"
         return "forward"
 
     def has_lost_at(self, seat):
         """Tell whether the seat has the residue that this player's witness avoids."""
-        return self._witness is not None and value(self._table, self._witness, seat) == self._witness[2]
+        return self._witness is not None and has_residue(self._witness, seat)
 
     def belongs_to(self, sizes, targets):
         """Tell whether the player was made for these ring sizes and targets."""
-        return self._table.sizes() == sizes and self._targets == sorted(targets)
+        return self._sizes == sizes and self._targets == sorted(targets)
 
 
 class Caller:
@@ -72,10 +78,12 @@ class Caller:
         sizes = sizes_of(table)
         require_targets(sizes, targets)
         self._listed = []
-        self._best = {}
+        self._grid = None
+        self._spread = None
         if _is_layers(strategy):
             require_small(table)
-            _, self._best = explore(sizes, targets)
+            self._grid = Grid(sizes)
+            self._spread = spread_from(self._grid, targets)
         elif _is_list_of_calls(sizes, strategy):
             self._listed = [_reduced_call(sizes, call) for call in strategy]
         else:
@@ -86,16 +94,19 @@ class Caller:
 
     def next_call(self, seat):
         """Return the call from the seat, and go on in a list of calls."""
+        require_seat(self._sizes, seat)
         call = self.call_at(self._turn, seat)
         self._turn += 1
         return call
 
     def call_at(self, turn, seat):
-        """Return the call from the seat, after so many calls of next_call."""
-        require_seat(self._sizes, seat)
+        """Return the call from the seat, after so many calls of next_call, without any checks."""
         if self._listed:
             return self._listed[turn % len(self._listed)]
-        return self._best.get(seat, (0,) * len(self._sizes))
+        call = self._spread.call_from(self._grid.index_of(seat))
+        if call is None:
+            return (0,) * len(self._sizes)
+        return call
 
     def belongs_to(self, sizes, targets):
         """Tell whether the player was made for these ring sizes and targets."""
@@ -111,14 +122,13 @@ def play(table, targets, seat, caller, responder, limit):
         raise Mismatch("caller")
     if not isinstance(responder, Responder) or not responder.belongs_to(sizes, targets):
         raise Mismatch("responder")
-    if not is_integer(limit) or limit < 0:
-        raise InvalidNumber("limit")
+    require_number(limit, 0, "limit")
     if seat not in targets and responder.has_lost_at(seat):
         raise InvalidSeat(seat)
-    return _played(table, targets, seat, caller, responder, limit)
+    return _played(sizes, targets, seat, caller, responder, limit)
 
 
-def _played(table, targets, seat, caller, responder, limit):
+def _played(sizes, targets, seat, caller, responder, limit):
     goals = set(targets)
     current = seat
     moves = []
@@ -127,7 +137,7 @@ def _played(table, targets, seat, caller, responder, limit):
         # The turn is that of this game: the players keep their own.
         call = caller.call_at(len(moves), current)
         direction = responder.direction_at(len(moves), current, call)
-        current = table.step(current, call, direction)
+        current = stepped(sizes, current, call, direction)
         moves.append((call, direction))
         seats.append(current)
     if current in goals:
@@ -150,20 +160,14 @@ def _is_layers(strategy):
     return isinstance(strategy, str) and strategy == "layers"
 
 
-def _is_list_of_directions(strategy):
-    if not isinstance(strategy, list) or len(strategy) == 0:
-        return False
-    return all([is_direction(entry) for entry in strategy])
-
-
 def _is_list_of_calls(sizes, strategy):
     if not isinstance(strategy, list) or len(strategy) == 0:
         return False
     return all([is_call(sizes, entry) for entry in strategy])
 
 
-def _is_common_witness(table, targets, strategy):
+def _is_common_witness(sizes, targets, strategy):
     """Tell whether the value is a witness whose residue is the value of every target."""
-    if not is_witness(table.sizes(), strategy):
+    if not is_witness(sizes, strategy):
         return False
-    return all([value(table, strategy, target) == strategy[2] for target in targets])
+    return all([has_residue(strategy, target) for target in targets])

@@ -1,8 +1,8 @@
 """Recorded games: what each player lost, and which witnesses explain the directions."""
 
 from calledseats.checks import require_moves, require_seat, require_targets
-from calledseats.layers import explore
-from calledseats.tables import require_small, sizes_of
+from calledseats.spread import numbered_seats
+from calledseats.tables import both_moves, require_small, sizes_of, stepped
 from calledseats.witnesses import canonical_weights, weighted_sum
 
 
@@ -17,7 +17,7 @@ class Record:
         self._table = table
         self._targets = list(targets)
         self._moves = list(moves)
-        self._seats = _seats_of_game(table, seat, moves)
+        self._seats = _seats_of_game(sizes, seat, moves)
         self._calls = _calls_before(self._seats, targets)
 
     def seats(self):
@@ -31,15 +31,17 @@ class Record:
     def losses(self):
         """Return (caller_loss, responder_loss) for each move before the first target."""
         require_small(self._table)
-        numbers, _ = explore(self._table.sizes(), self._targets)
+        sizes = self._table.sizes()
+        numbers = numbered_seats(sizes, self._targets)
         counted = self._moves
         if self._calls is not None:
             counted = self._moves[:self._calls]
         found = []
         for index, (call, _) in enumerate(counted):
-            forward, backward = self._table.moves(self._seats[index], call)
+            current = self._seats[index]
+            forward, backward = both_moves(sizes, current, call)
             worst = _larger(numbers.get(forward), numbers.get(backward))
-            before = numbers.get(self._seats[index])
+            before = numbers.get(current)
             after = numbers.get(self._seats[index + 1])
             found.append((_caller_loss(before, worst), _responder_loss(worst, after)))
         return found
@@ -60,7 +62,7 @@ def consistent_witnesses(table, seat, moves):
     require_seat(sizes, seat)
     require_moves(sizes, moves)
     require_small(table)
-    tests = _forward_tests(table, seat, moves)
+    tests = _forward_tests(sizes, seat, moves)
     found = []
     for modulus, weights in canonical_weights(sizes):
         start = weighted_sum(weights, seat) % modulus
@@ -71,11 +73,11 @@ def consistent_witnesses(table, seat, moves):
     return found
 
 
-def _forward_tests(table, seat, moves):
+def _forward_tests(sizes, seat, moves):
     """Return, for each move, the seat a step forward and whether the responder avoided it."""
     tests = []
-    for current, (call, direction) in zip(_seats_of_game(table, seat, moves), moves):
-        forward, _ = table.moves(current, call)
+    for current, (call, direction) in zip(_seats_of_game(sizes, seat, moves), moves):
+        forward, _ = both_moves(sizes, current, call)
         tests.append((forward, direction == "backward"))
     return tests
 
@@ -85,11 +87,11 @@ def _explains(residue, answers):
     return all([(reached == residue) == avoided for reached, avoided in answers])
 
 
-def _seats_of_game(table, seat, moves):
+def _seats_of_game(sizes, seat, moves):
     current = seat
     seats = [current]
     for call, direction in moves:
-        current = table.step(current, call, direction)
+        current = stepped(sizes, current, call, direction)
         seats.append(current)
     return seats
 
